@@ -1,0 +1,1 @@
+"""What kept pieces of texts surely tell, and which pieces to keep."""
