@@ -1,4 +1,4 @@
-"""Tests of kinds for numbers, which the interface does not list but needs in several places."""
+"""Tests of kinds for numbers and pieces, which the interface does not list but needs in several places."""
 
 
 def is_whole(value):
@@ -17,3 +17,15 @@ def is_ascending(value, most):
             return False
         least = number + 1
     return True
+
+
+def is_piece(value, pieces):
+    """Return whether any value is one of some pieces."""
+    return isinstance(value, str) and value in pieces
+
+
+def is_choice(value, pieces):
+    """Return whether any value is a list of different ones of some pieces, in any order."""
+    if not isinstance(value, list) or not all([is_piece(piece, pieces) for piece in value]):
+        return False
+    return len(set(value)) == len(value)
