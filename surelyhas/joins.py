@@ -137,11 +137,11 @@ class JoinsReader:
         text = self._text[self._at:end]
         if text not in self._numbers:
             self._numbers[text] = len(self._members)
-            self._members.append(self._pattern(text))
+            self._members.append(self._made_pattern(text))
         self._row.append(self._numbers[text])
         self._at = end + 1
 
-    def _pattern(self, text):
+    def _made_pattern(self, text):
         try:
             return Pattern(text)
         except BadPattern:

@@ -1,8 +1,13 @@
-"""Worlds for one family and some patterns, for any found (9)."""
+"""Worlds and answers for one family and some patterns, for any found (9)."""
 
 from itertools import combinations
 
 from surelyhas.graphs import AllowedLines, LineGraph, bits_of
+
+SURELY = "surely"
+NOT = "not"
+OPEN = "open"
+NEVER = "never"
 
 
 class Reckoning:
@@ -34,3 +39,29 @@ class Reckoning:
 
     def _allowed(self, found):
         return AllowedLines(self._graph, bits_of([self._pieces.index(piece) for piece in found]))
+
+
+class AnswerBook:
+    """The answers to one question, each reckoned once."""
+
+    def __init__(self, family, question):
+        self._question = question
+        self._reckoning = Reckoning(family, question.patterns)
+        self._answers = {}
+
+    def answer(self, found):
+        """Return the answer for some pieces of the family."""
+        key = tuple(sorted(found))
+        if key not in self._answers:
+            self._answers[key] = answer_in(self._reckoning.worlds(found), self._question)
+        return self._answers[key]
+
+
+def answer_in(told, question):
+    """Return the answer to a question for which these are all worlds."""
+    met = [question.holds(world) for world in told]
+    if len(met) == 0:
+        return NEVER
+    if all(met):
+        return SURELY
+    return OPEN if any(met) else NOT

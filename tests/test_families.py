@@ -2,6 +2,7 @@
 
 import itertools
 import unittest
+from unittest import mock
 
 from surelyhas.errors import BadPage, BadPieces, BadSigns
 from surelyhas.families import Family
@@ -14,7 +15,7 @@ NO_PIECES = (None, 0, True, "", "a", "ab", b"a", ("a",), (), {"a": 1}, {}, {"a"}
              [1], [True], [["a"]], [("a",)], [b"a"], [{}], ["a", 1], ["a", ["b"]], [{"a"}], ["a", None, "a"])
 NO_CHOICES = (None, 0, True, "", "a", "ab", b"a", ("a",), (), {"a": 1}, {}, {"a"}, range(1), object(), ["a", "a"],
               ["ba", "a", "ba"], [""], ["bb"], ["b"], ["aba"], ["A"], [None], [0], [True], [["a"]], [("a",)], [b"a"],
-              [{}], ["a", 1], ["a", ["ab"]], ["a", "ab", "ba", "bb"])
+              [{}], ["a", 1], ["a", ["ab"]], ["a", "ab", "ba", "bb"], [mock.ANY], mock.ANY)
 NO_LINES = (None, 0, True, "A", "a b", "c", "abc", "z", "a\n", b"a", ["a"], ("a",), (), [], {}, {"a": 1}, object(), "1",
             "\u00e4", 1.5)
 

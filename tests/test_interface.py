@@ -3,7 +3,8 @@
 import inspect
 import unittest
 
-from surelyhas import questions, worlds
+from surelyhas import answers, asking, papers, questions, worlds
+from surelyhas.archives import Archive
 from surelyhas.errors import BadArgument, BadPage, BadPieces, BadQuestion
 from surelyhas.families import Family
 from surelyhas.patterns import Pattern
@@ -37,6 +38,27 @@ True
 >>> family = Family('ab', ['ab', 'aab'])
 >>> (can_be_had(family, ['ab']), can_be_had(family, ['aab']))
 (True, False)
+
+>>> from surelyhas.questions import read_question
+>>> from surelyhas.families import Family
+>>> from surelyhas.answers import answer_of
+>>> family = Family('abc', ['ab', 'bc'])
+>>> [answer_of(family, ['ab', 'bc'], read_question(text)) for text in ("'abc'", "'ab' & 'b'", "'cab' & ~'b'")]
+['open', 'surely', 'not']
+
+>>> from surelyhas.questions import read_question
+>>> from surelyhas.families import Family
+>>> from surelyhas.archives import Archive
+>>> archive = Archive(Family('ab', ['ab', 'bb']))
+>>> told = [archive.put('one', ('ab',)), archive.put('two', ('abb', 'a')), archive.put('three', ())]
+>>> (archive.listed('ab'), archive.listed('bb'), archive.answers(read_question("'abb'")))
+(['one', 'two'], ['two'], {'one': 'not', 'three': 'not', 'two': 'open'})
+
+>>> from surelyhas.questions import read_question
+>>> from surelyhas.families import Family
+>>> from surelyhas.asking import asking_tree
+>>> asking_tree(Family('ab', ['a', 'ab']), read_question("'ab'"))
+('ab', 'not', 'surely')
 """
 FUNCTIONS = {
     questions.read_question: ["text"],
@@ -44,8 +66,25 @@ FUNCTIONS = {
     worlds.world_page: ["family", "found", "question", "world"],
     worlds.can_be_had: ["family", "found"],
     worlds.had_sets: ["family"],
+    answers.answer_of: ["family", "found", "question"],
+    answers.evidence: ["family", "found", "question"],
+    papers.world_paper: ["family", "found", "question", "world"],
+    papers.check_world: ["family", "found", "question", "world", "value"],
+    papers.answer_paper: ["family", "found", "question"],
+    papers.check_answer: ["family", "found", "question", "told", "value"],
+    asking.asking_tree: ["family", "question"],
+    asking.least_depth: ["family", "question"],
+    asking.check_tree: ["family", "question", "value"],
+    asking.stubborn_answers: ["family", "question"],
+    asking.check_stubborn: ["family", "question", "number", "value"],
 }
-FILES = {questions: ["read_question"], worlds: ["worlds", "world_page", "can_be_had", "had_sets"]}
+FILES = {
+    questions: ["read_question"],
+    worlds: ["worlds", "world_page", "can_be_had", "had_sets"],
+    answers: ["answer_of", "evidence"],
+    papers: ["world_paper", "check_world", "answer_paper", "check_answer"],
+    asking: ["asking_tree", "least_depth", "check_tree", "stubborn_answers", "check_stubborn"],
+}
 CLASSES = {
     Question: ("surelyhas.questions", ["patterns"],
                {"__init__": ["pattern"], "__and__": ["other"], "__or__": ["other"], "__invert__": [],
@@ -53,6 +92,11 @@ CLASSES = {
     Family: ("surelyhas.families", ["signs", "pieces"],
              {"__init__": ["signs", "pieces"], "of": ["page"], "cut": ["choice"], "is_allowed": ["found", "line"],
               "__eq__": ["other"]}),
+    Archive: ("surelyhas.archives", ["names", "family", "parts", "changes"],
+              {"__init__": ["family"], "__len__": [], "__contains__": ["value"], "__eq__": ["other"], "__enter__": [],
+               "__exit__": ["kind", "value", "trace"], "put": ["name", "page"], "drop": ["name"], "page": ["name"],
+               "found": ["name"], "listed": ["piece"], "answers": ["question"], "find": ["question"], "merge": [],
+               "stand": ["name", "question"], "news": ["name"], "fall": ["name"]}),
 }
 
 
@@ -95,8 +139,38 @@ class InterfaceTest(unittest.TestCase):
         self.assertIs(worlds.can_be_had(found=["ab"], family=family), False)
         self.assertEqual(worlds.had_sets(family=family), [[], ["b"], ["ab", "b"]])
 
+    def test_arguments_by_name_of_answers_and_papers(self):
+        family, question = Family("ab", ["ab", "b"]), read_question("'ab' | '^b'")
+        self.assertEqual(answers.answer_of(question=question, found=["b"], family=family), "surely")
+        self.assertEqual(answers.evidence(question=question, found=["b"], family=family), (("b",), None))
+        paper = papers.world_paper(world=(), question=question, found=["b"], family=family)
+        self.assertIs(papers.check_world(value=paper, world=(), question=question, found=["b"], family=family), True)
+        paper = papers.answer_paper(question=question, found=["b"], family=family)
+        told = papers.check_answer(value=paper, told="surely", question=question, found=["b"], family=family)
+        self.assertIs(told, True)
+        tree = asking.asking_tree(question=question, family=family)
+        self.assertIs(asking.check_tree(value=tree, question=question, family=family), True)
+        self.assertEqual(asking.least_depth(question=question, family=family), 1)
+        value = asking.stubborn_answers(question=question, family=family)
+        self.assertIs(asking.check_stubborn(value=value, number=0, question=question, family=family), True)
+
+    def test_arguments_by_name_of_archives(self):
+        question = read_question(text="'ab'")
+        archive = Archive(family=Family("ab", ["ab"]))
+        archive.put(page=("ab",), name="one")
+        archive.stand(question=question, name="all")
+        archive.put(name="two", page=())
+        self.assertEqual((archive.page(name="one"), archive.found(name="one")), (("ab",), ["ab"]))
+        self.assertEqual((archive.listed(piece="ab"), archive.find(question=question)), (["one"], (["one"], [])))
+        self.assertEqual(archive.answers(question=question), {"one": "surely", "two": "not"})
+        archive.drop(name="one")
+        self.assertEqual(archive.news(name="all"), ([], ["one"]))
+        self.assertIsNone(archive.fall(name="all"))
+
     def test_properties_are_only_read(self):
-        for one, names in ((Family("ab", ["a"]), ("signs", "pieces")), (read_question("'a'"), ("patterns",))):
+        archive = Archive(Family("ab", ["a"]))
+        for one, names in ((Family("ab", ["a"]), ("signs", "pieces")), (read_question("'a'"), ("patterns",)),
+                           (archive, ("names", "family", "parts", "changes"))):
             for name in names:
                 with self.assertRaises(AttributeError):
                     setattr(one, name, getattr(one, name))

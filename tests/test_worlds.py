@@ -8,35 +8,8 @@ from surelyhas.errors import BadArgument, BadPieces
 from surelyhas.families import Family
 from surelyhas.questions import read_question
 from surelyhas.worlds import can_be_had, had_sets, world_page, worlds
-from tests.reckoned import (Lines, all_tuples, choices_of, drawn_tree, had_by, lines_over, patterns_of, pieces_in,
-                            question_of)
-
-# Signs, pieces, and how long the lines are that are gone through.
-FAMILIES = (("a", [], 6), ("a", ["a"], 6), ("a", ["aa"], 6), ("a", ["aaa", "a"], 7), ("ab", [], 6), ("ab", ["a"], 6),
-            ("ab", ["ab", "ba"], 6), ("ab", ["ab", "aab"], 7), ("ab", ["a", "b", "ab"], 6), ("ab", ["bb", "aba"], 6),
-            ("ab", ["aba", "bab", "aa"], 6), ("ab", ["a", "ab", "abb", "bab"], 7), ("bz", ["z", "bz", "zzb"], 6),
-            ("abc", ["abc"], 5), ("abc", ["a", "bc"], 5), ("abc", ["ab", "c", "cab"], 5), ("abc", ["aa", "bb", "cc"], 5))
-TEXTS = ("a", "b", "ab", "ba", "aab", "a|bb", "a*", "", "^a", "^", "b$", "$", "^$", "^a*$", "^(ab)*$", "^.a", "a.$",
-         "[ab]b[ba]", "^(a|b.)+$", "z", "az", "q*", "^[az]b?$", "(a|)b", "bz", "c", "^c|b$", "a.*c", "bb?a")
-DRAWN = random.Random(9)
-
-
-def drawn_questions(many, most):
-    trees = []
-    while len(trees) < many:
-        tree = drawn_tree(DRAWN, [DRAWN.choice(TEXTS) for _ in range(DRAWN.randrange(1, most + 1))])
-        if len(patterns_of(tree)) <= 4:
-            trees.append(tree)
-    return trees
-
-
-def drawn_cases(many):
-    """Families, questions as trees, and all short lines."""
-    told = []
-    for tree in drawn_questions(many, 4):
-        signs, pieces, most = DRAWN.choice(FAMILIES)
-        told.append((Family(signs, pieces), tree, Lines(signs, pieces, patterns_of(tree), most)))
-    return told
+from tests.cases import FAMILIES, TEXTS, drawn_cases
+from tests.reckoned import Lines, all_tuples, choices_of, had_by, lines_over, patterns_of, pieces_in, question_of
 
 
 class WorldTest(unittest.TestCase):
@@ -62,7 +35,7 @@ class WorldTest(unittest.TestCase):
 
     def test_drawn_families_and_questions(self):
         longer = 0
-        for family, tree, lines in drawn_cases(250):
+        for family, tree, lines in drawn_cases(9, 250):
             for found in choices_of(family.pieces):
                 longer += self.check(family, tree, lines, found) != lines.worlds(found)
         # Most of what there is shows in short lines; else little would be compared here.
@@ -76,7 +49,7 @@ class WorldTest(unittest.TestCase):
                     self.check(Family(signs, pieces), text, lines, found)
 
     def test_the_order_of_found_does_not_count(self):
-        for family, tree, _ in drawn_cases(40):
+        for family, tree, _ in drawn_cases(19, 40):
             question = question_of(tree)
             for found in choices_of(family.pieces):
                 told = worlds(family, found, question)
@@ -137,10 +110,11 @@ class HadTest(unittest.TestCase):
             self.check(signs, pieces, 6 if len(signs) < 3 else 5)
 
     def test_drawn_families(self):
+        chooser = random.Random(9)
         for signs, most in (("a", 6), ("ab", 7), ("abc", 5)):
             words = [line for line in lines_over(signs, 3) if line]
             for _ in range(25):
-                self.check(signs, DRAWN.sample(words, DRAWN.randrange(0, min(6, len(words)))), most)
+                self.check(signs, chooser.sample(words, chooser.randrange(0, min(6, len(words)))), most)
 
     def test_no_pieces(self):
         self.assertEqual(had_sets(Family("abc", [])), [[]])
