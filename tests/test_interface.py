@@ -176,6 +176,23 @@ class InterfaceTest(unittest.TestCase):
                     setattr(one, name, getattr(one, name))
 
 
+class GivenTest(unittest.TestCase):
+    def test_checkers_change_nothing_that_was_given(self):
+        family, question = Family("ab", ["ab", "b"]), read_question("'a' & 'b'")
+        found = ["b", "ab"]
+        values = [papers.answer_paper(family, found, question), papers.world_paper(family, found, question, (0,)),
+                  asking.stubborn_answers(family, question), ["a"], {"a": ["b"]}, ("two", ["b"], []), ("b", ["not"], {})]
+        before = repr(values)
+        for value in values:
+            papers.check_world(family, found, question, (0,), value)
+            papers.check_answer(family, found, question, "surely", value)
+            papers.check_answer(family, found, question, value, value)
+            asking.check_tree(family, question, value)
+            asking.check_stubborn(family, question, 0, value)
+            asking.check_stubborn(family, question, value, value)
+        self.assertEqual((repr(values), found), (before, ["b", "ab"]))
+
+
 class StateTest(unittest.TestCase):
     """No call changes an object, whether it raises an error or not."""
 
