@@ -140,7 +140,7 @@ class States:
     def __init__(self, signs, barred, outside, goal):
         self._signs = signs
         self._barred = barred
-        self._outside = outside
+        self._others = outside
         self._goal = goal
 
     def all_from_start(self):
@@ -170,7 +170,7 @@ class States:
 
     def _first(self):
         """Return a list of the state at the beginning of a line, empty if no line can be."""
-        outside = tuple([follower.start() for follower in self._outside])
+        outside = tuple([follower.start() for follower in self._others])
         return [] if None in outside else [("", outside, self._goal.start())]
 
     def _all_behind(self, state):
@@ -184,7 +184,7 @@ class States:
         text = window + sign
         if any([text.endswith(piece) for piece in self._barred]):
             return None
-        behind = tuple([follower.behind(before, sign) for follower, before in zip(self._outside, outside)])
+        behind = tuple([follower.behind(before, sign) for follower, before in zip(self._others, outside)])
         if None in behind:
             return None
         return text[-WINDOW:], behind, self._goal.behind(goal, text)
@@ -192,7 +192,7 @@ class States:
     def _is_reached(self, state):
         """Return whether a line may end in a state and shows the goal."""
         _, outside, goal = state
-        ended = [follower.has(before) for follower, before in zip(self._outside, outside)]
+        ended = [follower.has(before) for follower, before in zip(self._others, outside)]
         return self._goal.is_shown(goal) and not any(ended)
 
     def _is_state(self, value):
@@ -206,6 +206,6 @@ class States:
         return isinstance(value, str) and len(value) <= WINDOW and all([sign in self._signs for sign in value])
 
     def _is_outside(self, value):
-        if not isinstance(value, tuple) or len(value) != len(self._outside):
+        if not isinstance(value, tuple) or len(value) != len(self._others):
             return False
-        return all([follower.is_undecided(state) for follower, state in zip(self._outside, value)])
+        return all([follower.is_undecided(state) for follower, state in zip(self._others, value)])

@@ -22,10 +22,10 @@ class Question:
             raise BadArgument(pattern)
 
     def __and__(self, other):
-        return self._joined(other, AND)
+        return self._together(other, AND)
 
     def __or__(self, other):
-        return self._joined(other, OR)
+        return self._together(other, OR)
 
     def __invert__(self):
         return Question(self._joins.opposite())
@@ -58,7 +58,7 @@ class Question:
         had = [number for number, pattern in enumerate(patterns) if any([pattern.has(line) for line in page])]
         return self._joins.are_met(had)
 
-    def _joined(self, other, sign):
+    def _together(self, other, sign):
         if not isinstance(other, Question):
             raise BadArgument(other)
         joins = self._joins.joined(other._joins, sign)
