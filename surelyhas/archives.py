@@ -1,7 +1,7 @@
 """Archives of pages under names, with standing questions (11, 15)."""
 
 from surelyhas.arguments import check_family, check_question
-from surelyhas.errors import BadName, BadPieces, NameTaken, UnknownName
+from surelyhas.errors import BadArgument, BadName, BadPieces, NameTaken, UnknownName
 from surelyhas.kinds import is_piece
 from surelyhas.reckoning import OPEN, SURELY, AnswerBook
 from surelyhas.words import is_name
@@ -163,3 +163,9 @@ class Archive:
         if name in self._pages:
             del self._pages[name]
             self._parts = [[other for other in part if other != name] for part in self._parts]
+
+
+def check_archive(archive):
+    """Raise BadArgument if a value is no archive."""
+    if not isinstance(archive, Archive):
+        raise BadArgument(archive)

@@ -1,11 +1,8 @@
 """In which order to ask for the pieces of one page (12)."""
 
-from surelyhas.arguments import check_family, check_question
+from surelyhas.arguments import check_question, check_small_family
 from surelyhas.depths import NOTHING, Depths
-from surelyhas.errors import LimitExceeded
 from surelyhas.kinds import is_whole
-
-MOST_PIECES = 6
 
 
 def asking_tree(family, question):
@@ -38,8 +35,6 @@ def check_stubborn(family, question, number, value):
 
 def checked_depths(family, question):
     """Return the Depths of a family and a question, or raise an error for the first that is wrong."""
-    check_family(family)
-    if len(family.pieces) > MOST_PIECES:
-        raise LimitExceeded(len(family.pieces))
+    check_small_family(family)
     check_question(question)
     return Depths(family, question)

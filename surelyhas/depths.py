@@ -4,9 +4,9 @@ What was told on the way is a tuple (asked, had): the bits of the pieces that we
 the page has.
 """
 
-from surelyhas.graphs import bits_of, numbers_of
+from surelyhas.bits import bits_of, numbers_of, piece_bits, pieces_of
 from surelyhas.kinds import is_choice, is_piece
-from surelyhas.reckoning import NEVER, NOT, OPEN, SURELY, AnswerBook, Reckoning
+from surelyhas.reckoning import NEVER, NOT, OPEN, SURELY, known_answers
 
 NOTHING = (0, 0)
 TWO = "two"
@@ -16,9 +16,8 @@ class Depths:
     """Makes and checks trees and stubborn answers, by the answers to all found that can be had."""
 
     def __init__(self, family, question):
-        book = AnswerBook(family, question)
         self._pieces = family.pieces
-        self._answers = {self._bits(found): book.answer(found) for found in Reckoning(family, []).had_sets()}
+        self._answers = known_answers(family, question)
         self._depths = {}
 
     def depth(self, told):
@@ -82,7 +81,7 @@ class Depths:
         agreeing = self._agreeing(told)
         one = agreeing[0]
         others = [found for found in agreeing if self._answers[found] != self._answers[one]]
-        return TWO, self._pieces_in(one), self._pieces_in(others[0])
+        return TWO, pieces_of(one, self._pieces), pieces_of(others[0], self._pieces)
 
     def _are_two_found(self, value, told):
         """Return whether any value is right stubborn answers for depth 0."""
@@ -91,7 +90,7 @@ class Depths:
         kind, *lists = value
         if not isinstance(kind, str) or kind != TWO or not all([is_choice(found, self._pieces) for found in lists]):
             return False
-        one, other = [self._bits(found) for found in lists]
+        one, other = [piece_bits(found, self._pieces) for found in lists]
         agreeing = self._agreeing(told)
         return one in agreeing and other in agreeing and self._answers[one] != self._answers[other]
 
@@ -120,12 +119,6 @@ class Depths:
 
     def _pieces_left(self, told):
         return [self._pieces[number] for number in self._numbers_left(told)]
-
-    def _bits(self, found):
-        return bits_of([self._pieces.index(piece) for piece in found])
-
-    def _pieces_in(self, bits):
-        return [self._pieces[number] for number in numbers_of(bits)]
 
 
 def behind(told, number, truth):

@@ -1,25 +1,9 @@
 """All lines over the signs of a family as ways through a graph, which tells what they have of its pieces and of some
-patterns.
-
-Sets of pieces and of patterns are told by bits: 1 for the first, 2 for the second, 4 for the third and so on.
+patterns. Sets of pieces and of patterns are told by bits.
 """
 
+from surelyhas.bits import are_within, bits_of, numbers_of, united
 from surelyhas.tables import line_table
-
-
-def bits_of(numbers):
-    """Return the bits of some different numbers."""
-    return sum([1 << number for number in numbers])
-
-
-def numbers_of(bits):
-    """Return the ascending tuple of the numbers that some bits tell."""
-    return tuple([number for number in range(bits.bit_length()) if bits & (1 << number) > 0])
-
-
-def are_within(bits, others):
-    """Return whether some bits are all among others."""
-    return bits & ~others == 0
 
 
 class LineGraph:
@@ -180,11 +164,3 @@ def line_from(onward, node):
         node, sign = onward[node]
         signs.append(sign)
     return "".join(signs)
-
-
-def united(many):
-    """Return all bits of several."""
-    told = 0
-    for bits in many:
-        told |= bits
-    return told

@@ -1,4 +1,4 @@
-"""Tests of kinds for numbers and pieces, which the interface does not list but needs in several places."""
+"""Tests of kinds for numbers, pieces and reasons, which the interface does not list but needs in several places."""
 
 
 def is_whole(value):
@@ -29,3 +29,18 @@ def is_choice(value, pieces):
     if not isinstance(value, list) or not all([is_piece(piece, pieces) for piece in value]):
         return False
     return len(set(value)) == len(value)
+
+
+def is_row(value, choice):
+    """Return whether any value is a list of just the pieces of a choice, a tuple, in its order."""
+    return isinstance(value, list) and all([isinstance(piece, str) for piece in value]) and tuple(value) == choice
+
+
+def are_just_keys(value, choices):
+    """Return whether any value is a dict whose keys are exactly some different choices, tuples."""
+    return isinstance(value, dict) and len(value) == len(choices) and all([is_choice_of(key, choices) for key in value])
+
+
+def is_choice_of(value, choices):
+    """Return whether any value is one of some choices, tuples."""
+    return isinstance(value, tuple) and all([isinstance(piece, str) for piece in value]) and value in choices

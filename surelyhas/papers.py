@@ -1,10 +1,9 @@
 """Papers that a tuple is no world, papers of answers, and their checkers (10)."""
 
-from itertools import combinations
-
 from surelyhas.arguments import check_found, check_numbers, check_question
 from surelyhas.families import is_over
 from surelyhas.kinds import is_ascending
+from surelyhas.orders import all_choices
 from surelyhas.proofs import Proofs
 from surelyhas.reckoning import Reckoning, answer_in
 from surelyhas.words import is_page
@@ -34,7 +33,7 @@ def answer_paper(family, found, question):
     reckoning = Reckoning(family, patterns)
     proofs = Proofs(family, found, patterns)
     shown = {}
-    for world in all_tuples(len(patterns)):
+    for world in all_choices(list(range(len(patterns)))):
         page = reckoning.page(found, world)
         shown[world] = proofs.paper(world) if page is None else page
     return shown
@@ -55,14 +54,6 @@ def check_answer(family, found, question, told, value):
     if not all([world in shown or proofs.is_paper(world, value[world]) for world in value]):
         return False
     return isinstance(told, str) and told == answer_in(shown, question)
-
-
-def all_tuples(many):
-    """Return the list of all ascending tuples of numbers of so many patterns."""
-    told = []
-    for length in range(many + 1):
-        told += [world for world in combinations(range(many), length)]
-    return told
 
 
 def is_page_for(family, found, patterns, world, value):

@@ -1,8 +1,8 @@
 """Worlds and answers for one family and some patterns, for any found (9)."""
 
-from itertools import combinations
-
-from surelyhas.graphs import AllowedLines, LineGraph, bits_of
+from surelyhas.bits import piece_bits
+from surelyhas.graphs import AllowedLines, LineGraph
+from surelyhas.orders import all_choices
 
 SURELY = "surely"
 NOT = "not"
@@ -32,13 +32,10 @@ class Reckoning:
 
     def had_sets(self):
         """Return the list of all found that can be had."""
-        told = []
-        for many in range(len(self._pieces) + 1):
-            told += [list(found) for found in combinations(self._pieces, many) if self.can_be_had(found)]
-        return told
+        return [list(found) for found in all_choices(self._pieces) if self.can_be_had(found)]
 
     def _allowed(self, found):
-        return AllowedLines(self._graph, bits_of([self._pieces.index(piece) for piece in found]))
+        return AllowedLines(self._graph, piece_bits(found, self._pieces))
 
 
 class AnswerBook:
@@ -65,3 +62,27 @@ def answer_in(told, question):
     if all(met):
         return SURELY
     return OPEN if any(met) else NOT
+
+
+def known_answers(family, question):
+    """Return a dict from the bits of all found that can be had to the answers to a question."""
+    book = AnswerBook(family, question)
+    return {piece_bits(found, family.pieces): book.answer(found) for found in Reckoning(family, []).had_sets()}
+
+
+def cut_answers(answers, choice):
+    """Return a dict from the bits of what can be had of a choice to the answers of the family of the chosen pieces.
+
+    answers are those of the whole family, from bits; choice is told by bits, too. A page with just some of the chosen
+    pieces has just some pieces of the whole family that agree with these.
+    """
+    told = {}
+    for found, answer in answers.items():
+        part = found & choice
+        told[part] = answer if told.get(part, answer) == answer else OPEN
+    return told
+
+
+def is_less_sharp(answer, other):
+    """Return whether an answer is less sharp than another one."""
+    return answer == OPEN and other != OPEN

@@ -10,10 +10,9 @@ from surelyhas.archives import Archive
 from surelyhas.errors import BadArgument, BadName, BadPage, BadPieces, NameTaken, UnknownName
 from surelyhas.families import Family
 from surelyhas.questions import read_question
-from tests.cases import TEXTS
-from tests.reckoned import drawn_tree, had_by, is_met, patterns_of, pieces_in, question_of
+from tests.cases import NAMES, drawn_page, drawn_question, put_all
+from tests.reckoned import had_by, is_met, patterns_of, pieces_in, question_of
 
-NAMES = ("a", "b", "c", "one", "two", "abcdefgh", "zz", "zza", "m")
 NO_NAMES = (None, 0, 1, True, False, "", "A", "aB", "abcdefghi", "a b", "a1", b"a", ["a"], ("a",), (), [], {}, {"a": 1},
             {"a"}, object(), 1.5, "a\n", "\u00e4", mock.ANY)
 NO_PAGES = (None, 0, True, "", "a", "=a", [], ["a"], {}, object(), (None,), (1,), ("A",), ("a", ["b"]), ("c",), ("ab", "z"),
@@ -81,23 +80,6 @@ class Model:
         now = self.meeting(tree)
         self.standing[name] = (tree, now)
         return sorted(set(now) - set(before)), sorted(set(before) - set(now))
-
-
-def drawn_page(chooser, signs):
-    return tuple("".join(chooser.choice(signs) for _ in range(chooser.randrange(5))) for _ in range(chooser.randrange(4)))
-
-
-def drawn_question(chooser):
-    while True:
-        tree = drawn_tree(chooser, [chooser.choice(TEXTS) for _ in range(chooser.randrange(1, 4))])
-        if len(patterns_of(tree)) <= 4:
-            return tree
-
-
-def put_all(archive, pages):
-    for name, page in pages:
-        archive.put(name, page)
-    return archive
 
 
 class ArchiveCase(unittest.TestCase):

@@ -3,7 +3,7 @@
 import inspect
 import unittest
 
-from surelyhas import answers, asking, papers, questions, worlds
+from surelyhas import answers, asking, choices, keeping, papers, questions, within, worlds
 from surelyhas.archives import Archive
 from surelyhas.errors import BadArgument, BadPage, BadPieces, BadQuestion
 from surelyhas.families import Family
@@ -59,6 +59,26 @@ True
 >>> from surelyhas.asking import asking_tree
 >>> asking_tree(Family('ab', ['a', 'ab']), read_question("'ab'"))
 ('ab', 'not', 'surely')
+
+>>> from surelyhas.questions import read_question
+>>> from surelyhas.families import Family
+>>> from surelyhas.archives import Archive
+>>> from surelyhas.choices import cheapest_sharp
+>>> archive = Archive(Family('abc', ['a', 'ab', 'bc']))
+>>> told = [archive.put('one', ('ab',)), archive.put('two', ('abc',)), archive.put('three', ('acb',))]
+>>> cheapest_sharp(archive, read_question("'ab'"))[:2]
+(['ab'], 2)
+
+>>> from surelyhas.questions import read_question
+>>> from surelyhas.families import Family
+>>> from surelyhas.keeping import kept_pieces
+>>> kept_pieces(Family('ab', ['a', 'ab', 'bb']), [read_question("'ab'")])[0]
+['ab']
+
+>>> from surelyhas.questions import read_question
+>>> from surelyhas.within import lies_within, page_outside
+>>> (lies_within('ab', read_question("'aab'"), read_question("'ab'")), page_outside('ab', read_question("'ab'"), read_question("'aab'")) is None)
+(True, False)
 """
 FUNCTIONS = {
     questions.read_question: ["text"],
@@ -77,6 +97,19 @@ FUNCTIONS = {
     asking.check_tree: ["family", "question", "value"],
     asking.stubborn_answers: ["family", "question"],
     asking.check_stubborn: ["family", "question", "number", "value"],
+    choices.answers_by: ["archive", "question", "choice"],
+    choices.is_sharp: ["archive", "question", "choice"],
+    choices.price_of: ["archive", "question", "choice", "look"],
+    choices.cheapest_sharp: ["archive", "question"],
+    choices.cheapest: ["archive", "question", "look"],
+    choices.check_cheapest: ["archive", "question", "choice", "told", "reasons"],
+    choices.next_piece: ["archive", "question"],
+    keeping.do_keep: ["family", "questions", "choice"],
+    keeping.kept_pieces: ["family", "questions"],
+    keeping.check_kept: ["family", "questions", "choice", "reasons"],
+    within.lies_within: ["signs", "question", "other"],
+    within.page_outside: ["signs", "question", "other"],
+    within.is_alike: ["signs", "question", "other"],
 }
 FILES = {
     questions: ["read_question"],
@@ -84,6 +117,9 @@ FILES = {
     answers: ["answer_of", "evidence"],
     papers: ["world_paper", "check_world", "answer_paper", "check_answer"],
     asking: ["asking_tree", "least_depth", "check_tree", "stubborn_answers", "check_stubborn"],
+    choices: ["answers_by", "is_sharp", "price_of", "cheapest_sharp", "cheapest", "check_cheapest", "next_piece"],
+    keeping: ["do_keep", "kept_pieces", "check_kept"],
+    within: ["lies_within", "page_outside", "is_alike"],
 }
 CLASSES = {
     Question: ("surelyhas.questions", ["patterns"],
@@ -166,6 +202,31 @@ class InterfaceTest(unittest.TestCase):
         archive.drop(name="one")
         self.assertEqual(archive.news(name="all"), ([], ["one"]))
         self.assertIsNone(archive.fall(name="all"))
+
+    def test_arguments_by_name_of_choices(self):
+        question = read_question("'ab'")
+        archive = Archive(Family("ab", ["ab", "b"]))
+        archive.put("one", ("ab",))
+        self.assertEqual(choices.answers_by(choice=["b"], question=question, archive=archive), {"one": "open"})
+        self.assertIs(choices.is_sharp(choice=["b"], question=question, archive=archive), False)
+        self.assertEqual(choices.price_of(choice=["b"], question=question, archive=archive), 1)
+        self.assertEqual(choices.price_of(look=5, choice=["b"], question=question, archive=archive), 6)
+        choice, price, reasons = choices.cheapest_sharp(question=question, archive=archive)
+        self.assertEqual((choice, price, reasons), (["ab"], 1, {(): "one"}))
+        self.assertIs(choices.check_cheapest(reasons=reasons, told=price, choice=choice, question=question,
+                                             archive=archive), True)
+        self.assertEqual(choices.cheapest(look=3, question=question, archive=archive)[:2], (["ab"], 1))
+        self.assertEqual(choices.next_piece(question=question, archive=archive), ("a", 0))
+
+    def test_arguments_by_name_of_keeping_and_within(self):
+        family, asked = Family("ab", ["ab", "b"]), [read_question("'ab'")]
+        self.assertIs(keeping.do_keep(choice=["b"], questions=asked, family=family), False)
+        choice, reasons = keeping.kept_pieces(questions=asked, family=family)
+        self.assertIs(keeping.check_kept(reasons=reasons, choice=choice, questions=asked, family=family), True)
+        one, two = read_question("'b'"), read_question("'ab'")
+        self.assertIs(within.lies_within(other=one, question=two, signs="ab"), True)
+        self.assertIsNone(within.page_outside(other=one, question=two, signs="ab"))
+        self.assertIs(within.is_alike(other=one, question=two, signs="ab"), False)
 
     def test_properties_are_only_read(self):
         archive = Archive(Family("ab", ["a"]))
