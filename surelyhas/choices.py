@@ -36,7 +36,7 @@ def cheapest_sharp(archive, question):
     """Return (choice, price, reasons) for the cheapest sharp choice."""
     check_archive(archive)
     check_question(question)
-    choice, price, ahead = Ranking(archive, question).cheapest_sharp()
+    choice, price, ahead = Ranking(archive, question).first_sharp()
     return list(choice), price, {other: names[0] for other, names in ahead.items()}
 
 
@@ -54,7 +54,7 @@ def check_cheapest(archive, question, choice, told, reasons):
     """Return whether any values are the cheapest sharp choice, its price and right reasons."""
     check_archive(archive)
     check_question(question)
-    right, price, ahead = Ranking(archive, question).cheapest_sharp()
+    right, price, ahead = Ranking(archive, question).first_sharp()
     if not is_row(choice, right) or not is_whole(told) or told != price or not are_just_keys(reasons, ahead):
         return False
     return all([is_name(reasons[other]) and reasons[other] in ahead[other] for other in ahead])

@@ -21,7 +21,7 @@ class Ranking:
         priced = sorted([(self._price(choice, look), at) for at, choice in enumerate(choices)])
         return [(choices[at], price) for price, at in priced]
 
-    def cheapest_sharp(self):
+    def first_sharp(self):
         """Return (choice, price, ahead) for the cheapest sharp choice, with a dict from each choice ahead of it to the
         ascending list of the pages for which that is less sharp.
         """

@@ -3,12 +3,14 @@
 import inspect
 import unittest
 
-from surelyhas import answers, asking, choices, keeping, papers, questions, within, worlds
+from surelyhas import answers, asking, choices, journals, keeping, matches, papers, questions, within, worlds
 from surelyhas.archives import Archive
+from surelyhas.console import Console
 from surelyhas.errors import BadArgument, BadPage, BadPieces, BadQuestion
 from surelyhas.families import Family
 from surelyhas.patterns import Pattern
 from surelyhas.questions import Question, read_question
+from surelyhas.reuse import Memory
 from tests.test_conventions import failures_of
 
 EXAMPLES = """
@@ -79,6 +81,24 @@ True
 >>> from surelyhas.within import lies_within, page_outside
 >>> (lies_within('ab', read_question("'aab'"), read_question("'ab'")), page_outside('ab', read_question("'ab'"), read_question("'aab'")) is None)
 (True, False)
+
+>>> from surelyhas.questions import read_question
+>>> from surelyhas.families import Family
+>>> from surelyhas.reuse import Memory
+>>> memory = Memory(Family('ab', ['ab', 'b']))
+>>> told = memory.learn(read_question("'b'"))
+>>> (memory.ask([], read_question("'ab'")), memory.ask(['b'], read_question("'ab'")), memory.counted)
+(('not', 0), ('not', None), 3)
+
+>>> from surelyhas.patterns import Pattern
+>>> from surelyhas.matches import first_match, matches
+>>> (list(matches(Pattern('a+'), 'aab')), first_match(Pattern('a+'), 'baab'))
+([(0, 1), (0, 2), (1, 2)], (1, 3))
+
+>>> from surelyhas.console import Console
+>>> console = Console()
+>>> [console.execute(line) for line in ('family ab ab,bb', 'put one =abb/=a', 'put two -', "ask 'abb'", 'list bb', 'parts')]
+['ok', 'ok', 'ok', 'one=open two=not', 'one', 'one,two']
 """
 FUNCTIONS = {
     questions.read_question: ["text"],
@@ -110,6 +130,11 @@ FUNCTIONS = {
     within.lies_within: ["signs", "question", "other"],
     within.page_outside: ["signs", "question", "other"],
     within.is_alike: ["signs", "question", "other"],
+    matches.matches: ["pattern", "line"],
+    matches.first_match: ["pattern", "line", "start"],
+    journals.check_sum: ["index", "line"],
+    journals.journal: ["archive"],
+    journals.recover: ["text"],
 }
 FILES = {
     questions: ["read_question"],
@@ -120,7 +145,11 @@ FILES = {
     choices: ["answers_by", "is_sharp", "price_of", "cheapest_sharp", "cheapest", "check_cheapest", "next_piece"],
     keeping: ["do_keep", "kept_pieces", "check_kept"],
     within: ["lies_within", "page_outside", "is_alike"],
+    matches: ["matches", "first_match"],
+    journals: ["check_sum", "journal", "recover"],
 }
+# What may be omitted, with its value.
+OMITTED = {choices.price_of: {"look": 0}, matches.first_match: {"start": 0}}
 CLASSES = {
     Question: ("surelyhas.questions", ["patterns"],
                {"__init__": ["pattern"], "__and__": ["other"], "__or__": ["other"], "__invert__": [],
@@ -133,6 +162,9 @@ CLASSES = {
                "__exit__": ["kind", "value", "trace"], "put": ["name", "page"], "drop": ["name"], "page": ["name"],
                "found": ["name"], "listed": ["piece"], "answers": ["question"], "find": ["question"], "merge": [],
                "stand": ["name", "question"], "news": ["name"], "fall": ["name"]}),
+    Memory: ("surelyhas.reuse", ["questions", "counted"],
+             {"__init__": ["family"], "learn": ["question"], "ask": ["found", "question"]}),
+    Console: ("surelyhas.console", ["archive"], {"__init__": [], "execute": ["line"]}),
 }
 
 
@@ -151,6 +183,9 @@ class InterfaceTest(unittest.TestCase):
                 self.assertIn(getattr(module, name), FUNCTIONS)
         for function, parameters in FUNCTIONS.items():
             self.assertEqual(parameters_of(function), parameters)
+            omitted = {name: value.default for name, value in inspect.signature(function).parameters.items()
+                       if value.default is not value.empty}
+            self.assertEqual(omitted, OMITTED.get(function, {}))
 
     def test_methods_stand_in_their_class(self):
         for one, (module, properties, methods) in CLASSES.items():
@@ -160,7 +195,7 @@ class InterfaceTest(unittest.TestCase):
                 self.assertEqual(parameters_of(vars(one)[name])[1:], parameters)
             for name in properties:
                 self.assertIsInstance(vars(one)[name], property)
-            self.assertIsNone(one.__hash__)
+            self.assertEqual(one.__hash__ is None, "__eq__" in methods)
 
     def test_arguments_by_name(self):
         family = Family(pieces=["ab", "b"], signs="ab")
@@ -228,10 +263,25 @@ class InterfaceTest(unittest.TestCase):
         self.assertIsNone(within.page_outside(other=one, question=two, signs="ab"))
         self.assertIs(within.is_alike(other=one, question=two, signs="ab"), False)
 
+    def test_arguments_by_name_of_matches_and_journals(self):
+        self.assertEqual(list(matches.matches(line="aba", pattern=Pattern("a"))), [(0, 1), (2, 3)])
+        self.assertEqual(matches.first_match(line="aba", pattern=Pattern("a")), (0, 1))
+        self.assertEqual(matches.first_match(start=1, line="aba", pattern=Pattern("a")), (2, 3))
+        self.assertEqual(journals.check_sum(line="a", index=1), 128)
+        archive = Archive(family=Family("ab", []))
+        self.assertEqual(journals.recover(text=journals.journal(archive=archive)), (archive, 0))
+
+    def test_arguments_by_name_of_memories_and_consoles(self):
+        memory = Memory(family=Family("ab", ["b"]))
+        self.assertEqual(memory.learn(question=read_question("'b'")), 0)
+        self.assertEqual(memory.ask(question=read_question("'ab'"), found=[]), ("not", 0))
+        self.assertEqual(Console().execute(line="family ab b"), "ok")
+
     def test_properties_are_only_read(self):
         archive = Archive(Family("ab", ["a"]))
         for one, names in ((Family("ab", ["a"]), ("signs", "pieces")), (read_question("'a'"), ("patterns",)),
-                           (archive, ("names", "family", "parts", "changes"))):
+                           (archive, ("names", "family", "parts", "changes")), (Console(), ("archive",)),
+                           (Memory(Family("ab", ["a"])), ("questions", "counted"))):
             for name in names:
                 with self.assertRaises(AttributeError):
                     setattr(one, name, getattr(one, name))
@@ -240,18 +290,21 @@ class InterfaceTest(unittest.TestCase):
 class GivenTest(unittest.TestCase):
     def test_checkers_change_nothing_that_was_given(self):
         family, question = Family("ab", ["ab", "b"]), read_question("'a' & 'b'")
-        found = ["b", "ab"]
-        values = [papers.answer_paper(family, found, question), papers.world_paper(family, found, question, (0,)),
+        found, asked, archive = ["b", "ab"], [question, question], Archive(family)
+        values = [choices.cheapest_sharp(archive, question)[0], keeping.kept_pieces(family, asked)[1],
+                  papers.answer_paper(family, found, question), papers.world_paper(family, found, question, (0,)),
                   asking.stubborn_answers(family, question), ["a"], {"a": ["b"]}, ("two", ["b"], []), ("b", ["not"], {})]
         before = repr(values)
         for value in values:
             papers.check_world(family, found, question, (0,), value)
+            choices.check_cheapest(archive, question, value, value, value)
+            keeping.check_kept(family, asked, value, value)
             papers.check_answer(family, found, question, "surely", value)
             papers.check_answer(family, found, question, value, value)
             asking.check_tree(family, question, value)
             asking.check_stubborn(family, question, 0, value)
             asking.check_stubborn(family, question, value, value)
-        self.assertEqual((repr(values), found), (before, ["b", "ab"]))
+        self.assertEqual((repr(values), found, asked), (before, ["b", "ab"], [question, question]))
 
 
 class StateTest(unittest.TestCase):
