@@ -65,12 +65,17 @@ def next_piece(archive, question):
     check_archive(archive)
     check_question(question)
     pieces = archive.family.pieces
-    words = [word for word in words_over(archive.family.signs) if word not in pieces]
-    if len(pieces) == MOST_PIECES or len(words) == 0:
+    if len(pieces) == MOST_PIECES:
         return None
     pages = open_pages(archive, question)
-    number, at = min([(open_with(word, archive.family, question, pages), at) for at, word in enumerate(words)])
-    return words[at], number
+    told = None
+    for word in words_over(archive.family.signs):
+        # No word behind it is better than one with which no page is open.
+        if word not in pieces and (told is None or told[1] > 0):
+            number = open_with(word, archive.family, question, pages)
+            if told is None or number < told[1]:
+                told = (word, number)
+    return told
 
 
 def words_over(signs):

@@ -41,7 +41,7 @@ class Ways:
         self._to_end = pattern.to_end
         self._letters = ["", *[pattern.letters(position) for position in positions]]
         self._follows = [pattern.first, *[pattern.follows(position) for position in positions]]
-        self._ends = [0, *pattern.last] if pattern.empty else pattern.last
+        self._ends = [0] + pattern.last if pattern.empty else pattern.last
         self._steps = {}
         # For each place of the line those positions, and 0, from which a way can come to an end.
         self._live = self._all_live()

@@ -85,10 +85,10 @@ class AnswerTest(unittest.TestCase):
             brute = Brute(archive, question)
             for choice in brute.choices:
                 given = chooser.sample(choice, len(choice))
+                before = list(given)
                 told = answers_by(archive, question, given)
                 self.assertEqual(told, brute.answers[choice])
                 self.assertIs(type(told), dict)
-                self.assertEqual(given, [piece for piece in given])
                 sharp = is_sharp(archive, question, given)
                 self.assertIs(sharp, not brute.less_sharp(choice))
                 seen |= {sharp, *told.values()}
@@ -97,6 +97,7 @@ class AnswerTest(unittest.TestCase):
                     self.assertIs(type(price), int)
                     self.assertEqual(price, brute.price(choice, look))
                 self.assertEqual(price_of(archive, question, given), brute.price(choice, 0))
+                self.assertEqual(given, before)
             self.assertEqual(answers_by(archive, question, archive.family.pieces), archive.answers(question))
         self.assertEqual(seen, {True, False, "surely", "not", "open"})
 

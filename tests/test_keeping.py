@@ -86,11 +86,14 @@ class KeepTest(unittest.TestCase):
             brute = Brute(family, questions)
             given = list(questions)
             for choice in brute.choices:
-                told = do_keep(family, given, chooser.sample(choice, len(choice)))
+                mixed = chooser.sample(choice, len(choice))
+                before = list(mixed)
+                told = do_keep(family, given, mixed)
                 self.assertIs(told, not brute.lost[choice])
+                self.assertEqual(mixed, before)
                 seen.add(told)
             self.assertIs(do_keep(family, questions, family.pieces), True)
-            self.assertEqual(len(given), len(questions))
+            self.assertEqual(given, questions)
         self.assertEqual(seen, {True, False})
 
     def test_no_questions(self):
